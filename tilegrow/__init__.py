@@ -1,0 +1,1 @@
+"""Tilegrow: floors grown by rules."""

@@ -1,0 +1,16 @@
+"""What the other modules ask of plain values, whatever these are."""
+
+
+def whole_within(thing, least, most):
+    # Python counts truths among the ints; here they are no whole numbers.
+    return isinstance(thing, int) and not isinstance(thing, bool) and least <= thing <= most
+
+
+def letters_good(thing, most):
+    if not isinstance(thing, str) or not 1 <= len(thing) <= most:
+        return False
+    return all(["a" <= sign <= "z" for sign in thing])
+
+
+def tile_good(thing):
+    return letters_good(thing, 1)
