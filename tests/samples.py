@@ -1,4 +1,10 @@
-"""Floors, rules and odd things that several tests share."""
+"""Floors, rules, odd things and ways of asking that several tests share."""
+
+import copy
+import random
+import unittest
+
+from tilegrow.errors import FloorError, NoTile, TooGreat
 
 ALPHABET = "abcdefghijklmnopqrstuvwxyz"
 
@@ -84,3 +90,122 @@ def grown_by_hand(rule, floor):
         "".join(laid[(row, column)] for column in range(wide * len(floor[0])))
         for row in range(high * len(floor))
     )
+
+
+def laid_far(rule, tile, growings):
+    """The floor of the tile, laid tile by tile, be it greater than a floor may be or not."""
+    floor = (tile,)
+    for growing in range(growings):
+        floor = grown_by_hand(rule, floor)
+    return floor
+
+
+def cut_by_hand(floor, row, column, rows, columns):
+    return tuple(tiles[column:column + columns] for tiles in floor[row:row + rows])
+
+
+def pieces_by_hand(floor, rows, columns):
+    """Each piece of this shape with the list of the places at which it stands, rising."""
+    found = {}
+    for row in range(len(floor) - rows + 1):
+        for column in range(len(floor[0]) - columns + 1):
+            found.setdefault(cut_by_hand(floor, row, column, rows, columns), []).append((row, column))
+    return found
+
+
+def tangled_rule(high, wide, tiles, seed):
+    """A rule whose blocks have no order in them; the same one for the same seed."""
+    source = random.Random(seed)
+    return (high, wide, tuple(
+        (tile, tuple("".join(source.choice(tiles) for column in range(wide)) for row in range(high)))
+        for tile in tiles
+    ))
+
+
+# Shapes of rules that the tests need often: tiles that never come, several shut groups, tiles that take turns.
+LONELY = (2, 2, (("a", ("ab", "bb")), ("b", ("bb", "bb")), ("c", ("ca", "ab"))))
+PARTED = (2, 1, (("a", ("a", "b")), ("b", ("b", "a")), ("k", ("m", "k")), ("m", ("k", "k")), ("z", ("a", "k"))))
+TURNS = (1, 3, (("a", ("bbb",)), ("b", ("ccc",)), ("c", ("aaa",))))
+TANGLED = [
+    tangled_rule(high, wide, ALPHABET[:many], 100 * high + 10 * wide + many)
+    for high, wide in SIZES for many in (1, 2, 4, 5)
+]
+MANY_RULES = RULES + [LONELY, PARTED, TURNS] + TANGLED
+
+# The greatest rules that there are: 26 tiles with blocks of 4 rows of 4 tiles.
+GREAT_RULES = [mixed_rule(4, 4, ALPHABET, 5), tangled_rule(4, 4, ALPHABET, 1)]
+
+
+def tiles_of(rule):
+    return [tile for tile, block in rule[2]]
+
+
+def laid_sizes(rule, most):
+    """The numbers of growings after which the floor of a tile has at most so many tiles."""
+    found = []
+    growings = 0
+    while (rule[0] * rule[1]) ** growings <= most:
+        found.append(growings)
+        growings += 1
+    return found
+
+
+def odd_numbers(least, most):
+    """Odd things, and whole numbers, that are no whole number from least to most."""
+    things = odd_things() + [least - 1, most + 1, least - 10 ** 99, most + 10 ** 90, str(least), (least,), [most]]
+    return [
+        thing for thing in things
+        if not isinstance(thing, int) or isinstance(thing, bool) or not least <= thing <= most
+    ]
+
+
+def spoil(thing):
+    """Changes a list or dict that was told, as its asker may."""
+    if isinstance(thing, list):
+        thing.reverse()
+        thing.append("spoiled")
+    elif isinstance(thing, dict):
+        thing["spoiled"] = True
+    elif isinstance(thing, tuple):
+        for part in thing:
+            spoil(part)
+
+
+class Asker(unittest.TestCase):
+    """Asks as 0.2 and 0.4 tell: nothing is changed, and the same question has the same answer."""
+
+    def told(self, asked, *handed):
+        before = copy.deepcopy(handed)
+        first = asked(*handed)
+        kept = copy.deepcopy(first)
+        self.assertEqual(handed, before)
+        spoil(first)
+        self.assertEqual(handed, before)
+        again = asked(*handed)
+        self.assertEqual(again, kept)
+        self.assertIs(again.__class__, kept.__class__)
+        return again
+
+    def refused(self, kind, asked, *handed):
+        before = copy.deepcopy(handed)
+        for time in range(2):
+            with self.assertRaises(FloorError) as met:
+                asked(*handed)
+            self.assertIs(met.exception.__class__, kind, handed)
+            self.assertEqual(handed, before)
+        return met.exception
+
+    def no_tile(self, tile, asked, *handed):
+        error = self.refused(NoTile, asked, *handed)
+        self.assertEqual(error.tile, tile)
+        self.assertIs(error.tile.__class__, tile.__class__)
+
+    def too_great(self, many, most, asked, *handed):
+        error = self.refused(TooGreat, asked, *handed)
+        self.assertEqual((error.many, error.most), (many, most))
+
+    def yes(self, asked, *handed):
+        self.assertIs(self.told(asked, *handed), True, handed)
+
+    def no(self, asked, *handed):
+        self.assertIs(self.told(asked, *handed), False, handed)

@@ -15,6 +15,10 @@ def floor_good(thing):
     return True
 
 
+def floor_within(thing, most):
+    return floor_good(thing) and len(thing) <= most and len(thing[0]) <= most
+
+
 def column_text(floor, column):
     return "".join([row[column] for row in floor])
 
@@ -25,3 +29,7 @@ def turned_floor(floor):
 
 def mirrored_floor(floor):
     return tuple([row[::-1] for row in floor])
+
+
+def cut_floor(floor, row, column, rows, columns):
+    return tuple([tiles[column:column + columns] for tiles in floor[row:row + rows]])

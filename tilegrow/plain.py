@@ -1,9 +1,13 @@
 """What the other modules ask of plain values, whatever these are."""
 
 
-def whole_within(thing, least, most):
+def whole_from(thing, least):
     # Python counts truths among the ints; here they are no whole numbers.
-    return isinstance(thing, int) and not isinstance(thing, bool) and least <= thing <= most
+    return isinstance(thing, int) and not isinstance(thing, bool) and least <= thing
+
+
+def whole_within(thing, least, most):
+    return whole_from(thing, least) and thing <= most
 
 
 def letters_good(thing, most):

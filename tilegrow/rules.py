@@ -62,6 +62,15 @@ def rule_of(high, wide, things):
     return (high, wide, tuple(sorted(things)))
 
 
+def refuse_no_tile(rule, thing):
+    if not isinstance(thing, str) or thing not in dict(rule[2]):
+        raise NoTile(thing)
+
+
+def tiles_known(block_of, floor):
+    return all([tile in block_of for tile in "".join(floor)])
+
+
 def refuse_strange(block_of, floor):
     for tile in "".join(floor):
         if tile not in block_of:
