@@ -4,7 +4,7 @@ import copy
 import unittest
 
 from samples import (
-    ALPHABET, CHESS, FLAT, GREAT_RULES, LONELY, MANY_RULES, PARTED, STRIPE, TOWER, TURNS, Asker, even_floor, even_rule,
+    CHESS, FLAT, GREAT_RULES, LONELY, MANY_RULES, PARTED, STRIPE, TOWER, TURNS, Asker, even_floor, even_rule,
     laid_far, laid_sizes, odd_things, pieces_by_hand, tiles_of,
 )
 from tilegrow.counts import tile_counts
@@ -290,7 +290,8 @@ class ConsequencesTest(Asker):
     def test_a_piece_turned_in_the_floor_turned(self):
         for rule in (CHESS, FLAT, STRIPE, TOWER, LONELY):
             for growings in (0, 1, 2, 3, 50):
-                for piece in (("a",), ("ab",), ("b", "a"), ("ab", "ba"), ("abc",), ("aab", "ccb"), ("abb", "baa", "cca")):
+                for piece in (("a",), ("ab",), ("b", "a"), ("ab", "ba"), ("abc",), ("aab", "ccb"), ("cc", "ab", "ba"),
+                              ("abb", "baa", "cca")):
                     times = times_far(rule, "a", growings, piece)
                     self.assertEqual(times_far(turned_rule(rule), "a", growings, turned_floor(piece)), times)
                     self.assertEqual(times_far(mirrored_rule(rule), "a", growings, mirrored_floor(piece)), times)
@@ -312,8 +313,9 @@ class ConsequencesTest(Asker):
 class SameAnswerTest(Asker):
     def test_whatever_was_asked_in_between(self):
         questions = [
-            (times_far, CHESS, "a", 9, ("ab", "ba")), (crossings, CHESS, "b", 9), (places_in, ("ab",), ("abab", "baba")),
-            (times_in, ("ab",), ("abab", "baba")), (times_far, PARTED, "z", 9, ("a", "b")), (crossings, PARTED, "z", 9),
+            (times_far, CHESS, "a", 9, ("ab", "ba")), (crossings, CHESS, "b", 9), (crossings, PARTED, "z", 9),
+            (places_in, ("ab",), ("abab", "baba")), (times_in, ("ab",), ("abab", "baba")),
+            (times_far, PARTED, "z", 9, ("a", "b")),
         ]
         before = copy.deepcopy(questions)
         first = [asked(*handed) for asked, *handed in questions]

@@ -85,7 +85,7 @@ class StillSharesTest(Asker):
             self.assertLess(abs(Fraction(many, 16 ** 1000) - Fraction(top, bottom)), Fraction(1, 10 ** 50))
         self.assertTrue(any(bottom > 10 ** 15 for top, bottom in shares))
         chain = (4, 4, tuple(
-            (tile, (tile * 4, tile * 4, tile * 4, tile * 3 + after)) for tile, after in zip(ALPHABET, ALPHABET[1:] + "a")
+            (tile, (tile * 4,) * 3 + (tile * 3 + after,)) for tile, after in zip(ALPHABET, ALPHABET[1:] + "a")
         ))
         self.assertEqual(self.told(still_shares, chain), ((1, 26),) * 26)
 

@@ -1,4 +1,4 @@
-"""What the other modules ask of plain values, whatever these are."""
+"""What the other modules ask of plain values."""
 
 
 def whole_from(thing, least):
@@ -18,3 +18,9 @@ def letters_good(thing, most):
 
 def tile_good(thing):
     return letters_good(thing, 1)
+
+
+def common_divisor(one, other):
+    while other != 0:
+        one, other = other, one % other
+    return abs(one)

@@ -1,7 +1,7 @@
 """Rules, and floors that are grown by them."""
 
 from tilegrow.errors import NoRule, NoTile, TooGreat
-from tilegrow.floors import MOST_TILES, floor_good, mirrored_floor, turned_floor
+from tilegrow.floors import MOST_TILES, floor_good, floor_within, mirrored_floor, turned_floor
 from tilegrow.plain import tile_good, whole_within
 
 MOST_SIZE = 4
@@ -69,6 +69,16 @@ def refuse_no_tile(rule, thing):
 
 def tiles_known(block_of, floor):
     return all([tile in block_of for tile in "".join(floor)])
+
+
+def floors_rising(block_of, things, most):
+    """Whether all things are floors of the rule's tiles, of at most so many rows and columns, each above the last."""
+    ahead = ()
+    for thing in things:
+        if not floor_within(thing, most) or not tiles_known(block_of, thing) or thing <= ahead:
+            return False
+        ahead = thing
+    return True
 
 
 def refuse_strange(block_of, floor):

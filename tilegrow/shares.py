@@ -1,13 +1,7 @@
 """Still shares: how the tiles are shared out in a floor where growing changes nothing of it."""
 
 from tilegrow.counts import table_of
-from tilegrow.plain import whole_from
-
-
-def common_divisor(one, other):
-    while other != 0:
-        one, other = other, one % other
-    return abs(one)
+from tilegrow.plain import common_divisor, whole_from
 
 
 def row_lowered(row):
