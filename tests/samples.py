@@ -140,6 +140,53 @@ def tiles_of(rule):
     return [tile for tile, block in rule[2]]
 
 
+def paint_of(rule, signs):
+    """The paint whose signs are these, in turn, over and over."""
+    return tuple((tile, signs[number % len(signs)]) for number, tile in enumerate(tiles_of(rule)))
+
+
+def own_paint(rule):
+    """The paint by which each tile has its own letter."""
+    return tuple((tile, tile) for tile in tiles_of(rule))
+
+
+def stills_of(rule):
+    return [tile for tile, block in rule[2] if block[0][0] == tile]
+
+
+def signs_laid(painted, growings):
+    """The signs of the floor of the tile after so many growings, laid as a whole."""
+    rule, tile, paint = painted
+    sign_of = dict(paint)
+    return tuple("".join(sign_of[own] for own in row) for row in laid_far(rule, tile, growings))
+
+
+def tile_by_hand(rule, tile, row, column):
+    """8.1 by the digits of the place: the tile of the still floor."""
+    digits = []
+    while row > 0 or column > 0:
+        digits.append((row % rule[0], column % rule[1]))
+        row, column = row // rule[0], column // rule[1]
+    for i, j in reversed(digits):
+        tile = dict(rule[2])[tile][i][j]
+    return tile
+
+
+def still_rule(high, wide, tiles, seed):
+    """A rule whose blocks have no order in them but for the first tile of each, which is the block's own."""
+    high, wide, blocks = tangled_rule(high, wide, tiles, seed)
+    return (high, wide, tuple((tile, (tile + block[0][1:],) + block[1:]) for tile, block in blocks))
+
+
+def renamed(painted, names):
+    """The painted floor whose tiles have other names: a dict."""
+    rule, tile, paint = painted
+    blocks = tuple(sorted(
+        (names[own], tuple("".join(names[part] for part in row) for row in block)) for own, block in rule[2]
+    ))
+    return ((rule[0], rule[1], blocks), names[tile], tuple(sorted((names[own], sign) for own, sign in paint)))
+
+
 def laid_sizes(rule, most):
     """The numbers of growings after which the floor of a tile has at most so many tiles."""
     found = []

@@ -1,6 +1,7 @@
 """Pieces that ever come of a tile, and where they come first."""
 
 from tilegrow.errors import NoFloor, NoNumber
+from tilegrow.families import reached
 from tilegrow.floors import cut_floor, floor_within
 from tilegrow.pieces import (
     MOST_CROSSED, MOST_SIDE, block_parts, fittings_of, piece_fits, shapes_within, sprout_plan, sprouts,
@@ -9,37 +10,38 @@ from tilegrow.plain import whole_within
 from tilegrow.rules import floors_rising, laid_floor, refuse_no_tile
 
 
-def crossing_plan(rule):
-    return sprout_plan(rule, shapes_within(MOST_CROSSED, MOST_CROSSED))
+def next_wave(high, wide, parts_of, wave, seen):
+    """What comes first of that of the wave, by one growing: a dict of the first places.
 
-
-def next_wave(rule, plan, wave, seen):
-    """The crossings that come first of those of the wave, by one growing: a dict of their first places.
-
-    One that comes first after some growings comes of such alone as come first one growing ahead; so the first place
-    of each needs no wave but this one.
+    parts_of tells of each one in the wave, as tuples (i, j, part), what comes of it where in its grown floor. What
+    comes first after some growings comes of such alone as comes first one growing ahead; so the first place of each
+    needs no wave but this one.
     """
-    high, wide, blocks = rule
-    block_of = dict(blocks)
     grown = {}
     for piece, place in wave.items():
-        for i, j, child in sprouts(block_of, high, plan, piece):
-            if child not in seen:
+        for i, j, part in parts_of(piece):
+            if part not in seen:
                 there = (place[0] * high + i, place[1] * wide + j)
-                if child not in grown or there < grown[child]:
-                    grown[child] = there
-    seen.update(grown)
+                if part not in grown or there < grown[part]:
+                    grown[part] = there
+    # The places are not kept with what was seen: they may be so great that all of them have no room.
+    for part in grown:
+        seen[part] = True
     return grown
+
+
+def crossing_parts(rule):
+    """For next_wave: of a piece, those of one or two rows and columns that touch the blocks of all its tiles."""
+    high, wide, blocks = rule
+    block_of = dict(blocks)
+    plan = sprout_plan(rule, shapes_within(MOST_CROSSED, MOST_CROSSED))
+    return lambda piece: sprouts(block_of, high, plan, piece)
 
 
 def crossings_coming(rule, tile):
     """All pieces of one or two rows and columns that ever come of the tile."""
-    plan = crossing_plan(rule)
-    wave = {(tile,): (0, 0)}
-    seen = dict(wave)
-    while len(wave) > 0:
-        wave = next_wave(rule, plan, wave, seen)
-    return list(seen)
+    parts_of = crossing_parts(rule)
+    return reached((tile,), lambda piece: [part for i, j, part in parts_of(piece)])
 
 
 def pieces_coming(rule, tile, rows, columns):
@@ -131,9 +133,9 @@ def comes_at(rule, tile, piece):
     if piece == (tile,):
         return (0, 0, 0)
     fittings = fittings_of(rule, block_parts(rule), piece)
-    plan = crossing_plan(rule)
+    parts_of = crossing_parts(rule)
     wave = {(tile,): (0, 0)}
-    seen = dict(wave)
+    seen = {(tile,): True}
     growings = 0
     while len(wave) > 0 and len(fittings) > 0:
         growings = growings + 1
@@ -141,5 +143,5 @@ def comes_at(rule, tile, piece):
         if len(places) > 0:
             row, column = min(places)
             return (growings, row, column)
-        wave = next_wave(rule, plan, wave, seen)
+        wave = next_wave(rule[0], rule[1], parts_of, wave, seen)
     return None

@@ -14,6 +14,21 @@ def walked(first, step):
     return (list(number_of), number_of[here])
 
 
+def reached(first, step):
+    """The list of what is come to from the first one, each once: one by one what step tells of it, in order."""
+    found = [first]
+    seen = {first: True}
+    number = 0
+    while number < len(found):
+        here = found[number]
+        for part in step(here):
+            if part not in seen:
+                seen[part] = True
+                found.append(part)
+        number = number + 1
+    return found
+
+
 def tiles_grown(text_of, tiles):
     return "".join(sorted(set("".join([text_of[tile] for tile in tiles]))))
 
